@@ -1,0 +1,1 @@
+"""Squeezelists: replacements that collapse runs of equal characters."""

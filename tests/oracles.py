@@ -1,0 +1,66 @@
+"""Slow and plain ways to find what the program finds, for the tests to compare with."""
+
+from itertools import count, product
+
+
+def replaced_sign_by_sign(text, character, number):
+    """Goes through a text from left to right and replaces each `number` characters by one."""
+    done = ''
+    waiting = 0
+    for sign in text:
+        if sign != character:
+            done += character * waiting + sign
+            waiting = 0
+        elif waiting == number - 1:
+            done += character
+            waiting = 0
+        else:
+            waiting += 1
+    return done + character * waiting
+
+
+def text_sign_by_sign(text, character, replacements):
+    """Applies a list of replacements to a text, one replacement after the other."""
+    for number in replacements:
+        text = replaced_sign_by_sign(text, character, number)
+    return text
+
+
+def length_sign_by_sign(length, replacements):
+    """Applies a list of replacements to a run that is written out."""
+    return len(text_sign_by_sign('x' * length, 'x', replacements))
+
+
+def length_by_taking_away(length, replacements):
+    """Takes groups away from a run, the greatest heaps of groups first: for lengths of any size."""
+    for number in replacements:
+        heaps = [(number, 1)]
+        while heaps[-1][0] * 2 <= length:
+            heaps.append((heaps[-1][0] * 2, heaps[-1][1] * 2))
+        put_in = 0
+        for signs, groups in reversed(heaps):
+            if signs <= length:
+                length -= signs
+                put_in += groups
+        length += put_in
+    return length
+
+
+def reach_by_trying(replacements, most):
+    """Tries all runs, until the first one that has too many characters afterwards."""
+    for length in count(1):
+        if length_by_groups(length, replacements) > most:
+            return length - 1
+
+
+def length_by_groups(length, replacements):
+    """As length_sign_by_sign, fast enough to try many lists."""
+    for number in replacements:
+        put_in, left = divmod(length, number)
+        length = put_in + left
+    return length
+
+
+def all_lists(steps, greatest):
+    """Returns all lists of so many replacements of at most `greatest`, in ascending order."""
+    return [list(numbers) for numbers in product(range(2, greatest + 1), repeat=steps)]

@@ -64,3 +64,25 @@ def length_by_groups(length, replacements):
 def all_lists(steps, greatest):
     """Returns all lists of so many replacements of at most `greatest`, in ascending order."""
     return [list(numbers) for numbers in product(range(2, greatest + 1), repeat=steps)]
+
+
+def makes_single(numbers, length):
+    """Tries all runs up to a length, one by one."""
+    return all(length_by_groups(run, numbers) == 1 for run in range(1, length + 1))
+
+
+def origins_by_trying(length, numbers, last=None):
+    """Tries all runs up to the last one, or up to the greatest one that can become so short."""
+    if last is None:
+        last = max(length, 1)
+        for number in numbers:
+            last *= number
+    return [run for run in range(last + 1) if length_by_groups(run, numbers) == length]
+
+
+def lists_with_product_up_to(bound):
+    """Returns all lists whose numbers have a product of at most `bound`, the empty one too."""
+    found = [[]]
+    for first in range(2, bound + 1):
+        found.extend([first] + rest for rest in lists_with_product_up_to(bound // first))
+    return found

@@ -15,6 +15,23 @@ REACHES = """
 >>> [reach([21, 6, 3, 3, 2]), reach([6, 3, 2], 2), best_reach(6), fewest_steps(100), list(best_lists(3))]
 [460, 40, 53590, 5, [[3, 2, 2], [3, 3, 2], [4, 2, 2], [4, 3, 2]]]
 """
+CHOICES = """
+>>> from squeezelists.choices import count_lists, nth_list
+>>> [count_lists(2, 4, 4), nth_list(2, 4, 4, 1), count_lists(0, 5, 1), count_lists(3, 60, 11)]
+[2, [3, 2], 1, 0]
+"""
+ORIGINS = """
+>>> from squeezelists.origins import count_origins, greatest_origin, origins
+>>> [greatest_origin(1, [3, 2]), list(origins(1, [3, 2])), list(origins(2, [2])), count_origins(1, [3, 2], 4)]
+[6, [1, 2, 3, 4, 6], [3, 4], 4]
+"""
+PARTING = """
+>>> from squeezelists.parting import commute, list_of, parting_run
+>>> from squeezelists.squeezing import squeezed
+>>> run = parting_run([2, 3], [3, 2])
+>>> [squeezed(run, [2, 3]) == squeezed(run, [3, 2]), commute([2, 3], [2, 3, 2, 3]), list_of([1, 2, 3, 4, 6]), list_of([1, 2, 5])]
+[False, True, [3, 2], None]
+"""
 README = Path(__file__).resolve().parent.parent / 'README.md'
 
 
@@ -40,6 +57,15 @@ class ExamplesTest(unittest.TestCase):
 
     def test_reaches(self):
         self.check(REACHES, 2)
+
+    def test_choices(self):
+        self.check(CHOICES, 2)
+
+    def test_origins(self):
+        self.check(ORIGINS, 2)
+
+    def test_parting(self):
+        self.check(PARTING, 4)
 
     def test_first_words_of_the_document(self):
         self.check("""

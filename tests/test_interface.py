@@ -19,6 +19,20 @@ FUNCTIONS = {
         'fewest_steps': '(length, most=1)',
         'best_lists': '(steps, most=1)',
     },
+    'choices': {
+        'count_lists': '(steps, greatest, length)',
+        'nth_list': '(steps, greatest, length, number)',
+    },
+    'origins': {
+        'greatest_origin': '(length, replacements)',
+        'origins': '(length, replacements)',
+        'count_origins': '(length, replacements, last)',
+    },
+    'parting': {
+        'parting_run': '(first, second)',
+        'commute': '(first, second)',
+        'list_of': '(singles)',
+    },
 }
 CLASSES = {
     'errors': ['SqueezeError', 'InvalidList', 'InvalidNumber', 'InvalidCharacter', 'NothingToUndo', 'Unreadable'],
@@ -49,8 +63,9 @@ class InterfaceTest(unittest.TestCase):
             self.assertEqual(defined_in(name, ast.ClassDef), classes)
 
     def test_generators_yield(self):
-        for name, function in [('squeezing', 'stages'), ('reaches', 'best_lists')]:
-            found = getattr(import_module(f'squeezelists.{name}'), function)(3, [2] if function == 'stages' else 1)
+        for name, function, second in [('squeezing', 'stages', [2]), ('reaches', 'best_lists', 1),
+                                       ('origins', 'origins', [2])]:
+            found = getattr(import_module(f'squeezelists.{name}'), function)(3, second)
             self.assertIs(iter(found), iter(found))
 
 

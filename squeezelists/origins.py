@@ -28,7 +28,10 @@ def count_origins(length, replacements, last):
     check_number(length, 0)
     check_list(replacements)
     check_number(last, 0)
-    return count_up_to(last, length, replacements, 0, {})
+    limits = {last: 1}
+    for number in replacements:
+        limits = limits_after(limits, number)
+    return sum([many for limit, many in limits.items() if limit >= length])
 
 
 def many_for_one(length, number):
@@ -42,20 +45,17 @@ def origins_for_one(length, number):
     return [(length - left) * number + left for left in range(many_for_one(length, number))]
 
 
-def count_up_to(last, length, replacements, place, known):
-    """Returns how many runs up to `last` the replacements from a place on squeeze to the length.
+def limits_after(limits, number):
+    """Returns the limits of the runs after a replacement for those before it.
 
-    `known` keeps the answers. There are few of them: the limits that one limit leads to lie close together.
+    A limit stands for all runs up to it, one of each length, and is kept with how often they are counted;
+    below 0, they are taken away so often. There are few limits: those that come from one lie close together.
     """
-    if place == len(replacements):
-        return 1 if last >= length else 0
-    if (place, last) not in known:
-        number = replacements[place]
-        many = 0
-        for left in range(number):
+    found = {}
+    for limit, many in limits.items():
+        for left in range(min(number, limit + 1)):
             # All runs with so many characters left over: their lengths afterwards are those from `left` on.
-            longest = (last - left) // number + left
-            many += count_up_to(longest, length, replacements, place + 1, known)
-            many -= count_up_to(left - 1, length, replacements, place + 1, known)
-        known[place, last] = many
-    return known[place, last]
+            longest = (limit - left) // number + left
+            found[longest] = found.get(longest, 0) + many
+            found[left - 1] = found.get(left - 1, 0) - many
+    return {limit: many for limit, many in found.items() if many != 0}

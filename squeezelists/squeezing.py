@@ -14,17 +14,11 @@ def squeeze_text(text, character, replacements):
     """Returns the text in which all runs of the character are squeezed."""
     check_character(character)
     check_list(replacements)
-    pieces = []
-    run = 0
-    for sign in text:
-        if sign == character:
-            run += 1
-        else:
-            pieces.append(character * length_after(run, replacements))
-            pieces.append(sign)
-            run = 0
-    pieces.append(character * length_after(run, replacements))
-    return "".join(pieces)
+    lengths = lengths_between(text, character)
+    # Runs of the same length are squeezed once: there may be many of them, and the list may be long.
+    after = {length: length_after(length, replacements) for length in sorted(set(lengths))}
+    others = list(text.replace(character, "")) + [""]
+    return "".join([character * after[length] + other for length, other in zip(lengths, others)])
 
 
 def stages(length, replacements):
@@ -48,4 +42,19 @@ def length_after(length, replacements):
 
 def length_after_one(length, number):
     """Returns the length of a run after one replacement."""
-    return length // number + length % number
+    groups, left = divmod(length, number)
+    return groups + left
+
+
+def lengths_between(text, character):
+    """Returns how often the character stands before each other one, and at the end of the text."""
+    lengths = []
+    run = 0
+    for sign in text:
+        if sign == character:
+            run += 1
+        else:
+            lengths.append(run)
+            run = 0
+    lengths.append(run)
+    return lengths

@@ -1,6 +1,7 @@
 """Slow and plain ways to find what the program finds, for the tests to compare with."""
 
-from itertools import count, product
+import re
+from itertools import count, groupby, product
 
 
 def replaced_sign_by_sign(text, character, number):
@@ -86,3 +87,33 @@ def lists_with_product_up_to(bound):
     for first in range(2, bound + 1):
         found.extend([first] + rest for rest in lists_with_product_up_to(bound // first))
     return found
+
+
+def runs_sign_by_sign(text, character):
+    """Returns the lengths of the runs of a character, from left to right."""
+    return [len(list(run)) for sign, run in groupby(text) if sign == character]
+
+
+def shown(numbers):
+    """Returns the text of a list of replacements."""
+    parts = []
+    for number, run in groupby(numbers):
+        many = len(list(run))
+        parts.append(str(number) if many == 1 else f'{number}^{many}')
+    return ', '.join(parts) or 'none'
+
+
+NUMBER = '([2-9]|[1-9][0-9]{1,199})'
+PART = NUMBER + '(\\^' + NUMBER + ')?'
+
+
+def read_by_pattern(text):
+    """Returns the list of replacements with a text, or None if there is none."""
+    if text == 'none':
+        return []
+    if not re.fullmatch(f'{PART}(, {PART})*', text):
+        return None
+    parts = [part.split('^') for part in text.split(', ')]
+    if any(part[0] == after[0] for part, after in zip(parts, parts[1:])):
+        return None
+    return [int(part[0]) for part in parts for _ in range(int(part[1]) if part[1:] else 1)]

@@ -1,10 +1,13 @@
 """The examples of the document and those of README.md, as they stand there."""
 
 import doctest
+import re
 import unittest
 from pathlib import Path
 
-# The examples of DOC.md for the files that are there, copied letter by letter.
+from squeezelists.errors import SqueezeError
+
+# The examples of DOC.md, copied letter by letter.
 SQUEEZING = """
 >>> from squeezelists.squeezing import squeeze_text, squeezed, stages
 >>> [squeezed(20, [6, 3, 2]), list(stages(11, [6, 3, 2])), squeeze_text('a    b   c', ' ', [3, 2])]
@@ -32,15 +35,58 @@ PARTING = """
 >>> [squeezed(run, [2, 3]) == squeezed(run, [3, 2]), commute([2, 3], [2, 3, 2, 3]), list_of([1, 2, 3, 4, 6]), list_of([1, 2, 5])]
 [False, True, [3, 2], None]
 """
+HIDDEN = """
+>>> from squeezelists.hidden import HiddenList, find
+>>> find(HiddenList([21, 6, 3, 3, 2]), 6, 40)
+[21, 6, 3, 3, 2]
+"""
+LIVE = """
+>>> from squeezelists.live import SqueezedText
+>>> live = SqueezedText('a     b', ' ')
+>>> live.squeeze(3, 2)
+>>> live.undo()
+>>> single = SqueezedText.single('x    y', ' ')
+>>> [live.text, live.replacements, live.longest, list(live.runs()), single.replacements, single.text]
+['a   b', [3], 3, [3], [2, 2], 'x y']
+"""
+TEXTS = """
+>>> from squeezelists.texts import show_list
+>>> show_list([21, 3, 3, 2])
+'21, 3^2, 2'
+"""
+READINGS = """
+>>> from squeezelists.readings import read_list
+>>> read_list('3, 3')
+raises Unreadable('3, 3')
+"""
 README = Path(__file__).resolve().parent.parent / 'README.md'
+
+
+class Raised:
+    """Shows an error as the document does."""
+
+    def __init__(self, error):
+        self.error = error
+
+    def __repr__(self):
+        return f'raises {type(self.error).__name__}({self.error.value!r})'
+
+
+def raised(call):
+    try:
+        return call()
+    except SqueezeError as error:
+        return Raised(error)
 
 
 def run_examples(text):
     """Runs the examples of a text; returns how many there are and what was wrong with them."""
     told = []
+    # The document's own way to show an error.
+    text = re.sub('^>>> (.*)\nraises (.*)$', r'>>> raised(lambda: \1)\nraises \2', text, flags=re.MULTILINE)
     # The marks that end a block of code are no part of what an example shows.
     text = text.replace('```', '')
-    test = doctest.DocTestParser().get_doctest(text, {}, 'examples', None, None)
+    test = doctest.DocTestParser().get_doctest(text, {'raised': raised}, 'examples', None, None)
     results = doctest.DocTestRunner().run(test, out=told.append)
     return results.attempted, ''.join(told)
 
@@ -66,6 +112,20 @@ class ExamplesTest(unittest.TestCase):
 
     def test_parting(self):
         self.check(PARTING, 4)
+
+    def test_hidden(self):
+        self.check(HIDDEN, 2)
+
+    def test_live(self):
+        self.check(LIVE, 6)
+
+    def test_texts(self):
+        self.check(TEXTS, 2)
+
+    def test_readings(self):
+        self.check(READINGS, 2)
+        many, told = run_examples(READINGS.replace("raises Unreadable('3, 3')", "raises Unreadable('3')"))
+        self.assertIn("raises Unreadable('3, 3')", told)
 
     def test_first_words_of_the_document(self):
         self.check("""

@@ -33,9 +33,37 @@ FUNCTIONS = {
         'commute': '(first, second)',
         'list_of': '(singles)',
     },
+    'hidden': {
+        'find': '(hidden, steps, greatest)',
+    },
+    'texts': {
+        'show_list': '(replacements)',
+    },
+    'readings': {
+        'read_list': '(text)',
+    },
 }
 CLASSES = {
     'errors': ['SqueezeError', 'InvalidList', 'InvalidNumber', 'InvalidCharacter', 'NothingToUndo', 'Unreadable'],
+    'hidden': ['HiddenList'],
+    'live': ['SqueezedText'],
+}
+METHODS = {
+    ('hidden', 'HiddenList'): {
+        '__init__': '(self, replacements)',
+        'ask': '(self, length)',
+    },
+    ('live', 'SqueezedText'): {
+        '__init__': '(self, text, character)',
+        '__eq__': '(self, other)',
+        'squeeze': '(self, *replacements)',
+        'undo': '(self)',
+        'runs': '(self)',
+    },
+}
+PROPERTIES = {
+    ('hidden', 'HiddenList'): ['questions'],
+    ('live', 'SqueezedText'): ['text', 'replacements', 'longest'],
 }
 
 
@@ -61,6 +89,25 @@ class InterfaceTest(unittest.TestCase):
     def test_classes(self):
         for name, classes in CLASSES.items():
             self.assertEqual(defined_in(name, ast.ClassDef), classes)
+
+    def test_methods_stand_in_the_class_itself(self):
+        for (name, kind), methods in METHODS.items():
+            members = vars(getattr(import_module(f'squeezelists.{name}'), kind))
+            for method, arguments in methods.items():
+                with self.subTest(kind=kind, method=method):
+                    self.assertEqual(str(inspect.signature(members[method])), arguments)
+
+    def test_properties(self):
+        for (name, kind), properties in PROPERTIES.items():
+            members = vars(getattr(import_module(f'squeezelists.{name}'), kind))
+            for word in properties:
+                with self.subTest(kind=kind, word=word):
+                    self.assertIsInstance(members[word], property)
+
+    def test_single_is_a_class_method(self):
+        live = import_module('squeezelists.live')
+        self.assertIsInstance(vars(live.SqueezedText)['single'], classmethod)
+        self.assertEqual(str(inspect.signature(live.SqueezedText.single)), '(text, character)')
 
     def test_generators_yield(self):
         for name, function, second in [('squeezing', 'stages', [2]), ('reaches', 'best_lists', 1),
